@@ -7,18 +7,19 @@ from mostlaid.ratios import below, in_order, minus, on_way, plus, times
 
 def chain_place(chain, y):
     """The place at a height of a chain of points that goes up."""
-    for at, (x, height) in enumerate(chain):
-        if height == y:
-            return x
-        if below(y, height):
-            before, low = chain[at - 1]
-            n, d = share_of(low, height, y)
-            return on_way(before, x, n, d)
-    return chain[-1][0]
+    at = 0
+    while below(chain[at][1], y):
+        at += 1
+    x, height = chain[at]
+    if height == y:
+        return x
+    before, low = chain[at - 1]
+    n, d = share_of(low, height, y)
+    return on_way(before, x, n, d)
 
 
 def between_chains(left, right):
-    """The patch between two chains of points that go up from one height to one other height."""
+    """The patch between two chains of points that go up from one common height to another one."""
     heights = in_order([y for _, y in left + right])
     row_list = [(chain_place(left, y), chain_place(right, y)) for y in heights]
     bands = [(row_list[k] + row_list[k + 1],) for k in range(len(heights) - 1)]
@@ -60,7 +61,7 @@ def outer_chain(points, sign):
 
 
 def convex(points):
-    """The least convex patch with some points, at least one."""
+    """The least convex patch with some points; without points the empty one."""
     leftmost, rightmost = {}, {}
     for x, y in points:
         if y not in leftmost or below(x, leftmost[y]):

@@ -26,6 +26,13 @@ def upper_ends(strips):
     return tuple([strip[2:] for strip in strips])
 
 
+def ends_at(bands, at):
+    """The stretches at a height, by its index, at which strips of the bands below and above it end."""
+    under = upper_ends(bands[at - 1]) if at > 0 else ()
+    above = lower_ends(bands[at]) if at < len(bands) else ()
+    return under, above
+
+
 def is_lone(strip):
     """Whether a strip has no points between its sides."""
     a, b, c, d = strip
@@ -97,7 +104,7 @@ def straightened(heights, rows, bands):
     under = ()
     for at, y in enumerate(heights):
         above = bands[at] if at < len(bands) else ()
-        if not under and not rows[at] and not above:
+        if not rows[at]:
             continue
         if under and above:
             three = (levels[-1], y, heights[at + 1])

@@ -1,15 +1,12 @@
 """The cells of a patch by their numbers, and which of them touch."""
 
-from mostlaid.forms import lower_ends, upper_ends
+from mostlaid.forms import ends_at
 from mostlaid.ratios import below
 
 
 def holder(row, x):
-    """The index of the stretch of a row that has a place, or -1."""
-    for at, (a, b) in enumerate(row):
-        if not below(x, a) and not below(b, x):
-            return at
-    return -1
+    """The index of the stretch of a row that has a place of the row."""
+    return len([end for _, end in row if below(end, x)])
 
 
 def stretch_numbers(p):
@@ -45,8 +42,6 @@ def bare_stretches(p):
     """
     found = []
     for at, row in enumerate(p.rows):
-        under = upper_ends(p.bands[at - 1]) if at > 0 else ()
-        above = lower_ends(p.bands[at]) if at < len(p.bands) else ()
-        ends = under + above
-        found.extend([(p.levels[at], a, b) for a, b in row if (a, b) not in ends])
+        under, above = ends_at(p.bands, at)
+        found.extend([(p.levels[at], a, b) for a, b in row if (a, b) not in under + above])
     return found

@@ -46,7 +46,8 @@ def part_numbers(p):
         part_of[begin] = many
         waiting = [begin]
         while waiting:
-            for cell in links[waiting.pop()]:
+            here = waiting.pop()
+            for cell in links[here]:
                 if part_of[cell] < 0:
                     part_of[cell] = many
                     waiting.append(cell)

@@ -1,6 +1,6 @@
 """Two patches laid over one another, at heights between which no sides cross."""
 
-from mostlaid.forms import inner, lower_ends, upper_ends
+from mostlaid.forms import ends_at, inner
 from mostlaid.patches import cut_at, formed
 from mostlaid.ratios import below, in_order, minus, on_way, over, plus, sort_keys
 
@@ -200,8 +200,7 @@ def closed_rows(rows, bands):
     """Rows with the ends of the strips between them."""
     found = []
     for at, row in enumerate(rows):
-        under = upper_ends(bands[at - 1]) if at > 0 else ()
-        above = lower_ends(bands[at]) if at < len(bands) else ()
+        under, above = ends_at(bands, at)
         ends = under + above
         found.append(row if all([end in row for end in ends]) else united(row + ends))
     return found

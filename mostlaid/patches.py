@@ -1,6 +1,6 @@
 """Patches: closed sets of the plane with straight sides, kept in one form for each set."""
 
-from mostlaid.forms import inner, level_below, lower_ends, section, straightened, upper_ends
+from mostlaid.forms import ends_at, inner, level_below, section, straightened
 from mostlaid.ratios import below, pair
 
 
@@ -63,12 +63,10 @@ def cut_at(p, y):
     at = level_below(p.levels, y)
     if at < 0:
         return (), (), ()
-    last = at + 1 == len(p.levels)
     if p.levels[at] == y:
-        under = upper_ends(p.bands[at - 1]) if at > 0 else ()
-        above = () if last else lower_ends(p.bands[at])
+        under, above = ends_at(p.bands, at)
         return p.rows[at], under, above
-    if last:
+    if at + 1 == len(p.levels):
         return (), (), ()
     row = section(p.bands[at], p.levels[at], p.levels[at + 1], y)
     return row, row, row

@@ -2,7 +2,6 @@
 
 from mostlaid.convex import convex
 from mostlaid.errors import BadRule
-from mostlaid.patches import nothing
 from mostlaid.ratios import pair
 from mostlaid.windings import wound
 
@@ -50,5 +49,4 @@ def of_rings(rings, rule=SOME):
 
 def hull(points):
     """The least convex patch with some points; without points the empty one."""
-    corners = [(pair(x), pair(y)) for x, y in points]
-    return convex(corners) if corners else nothing()
+    return convex([(pair(x), pair(y)) for x, y in points])

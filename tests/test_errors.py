@@ -74,15 +74,6 @@ class ErrorsTest(unittest.TestCase):
                 self.assertEqual(getattr(first, attribute), ("first", k))
                 self.assertEqual(getattr(second, attribute), ("second", k))
 
-    def test_too_many_or_too_few_arguments(self):
-        for name, names in LISTED.items():
-            kind = getattr(errors, name)
-            with self.assertRaises(TypeError):
-                kind(*[1 for _ in range(len(names) + 1)])
-            if names:
-                with self.assertRaises(TypeError):
-                    kind()
-
     def test_lists_are_held_and_not_copied(self):
         edges = [(0, 1, 1)]
         error = errors.NotClosed(edges)

@@ -4,10 +4,11 @@ from fractions import Fraction
 
 from mostlaid.feet import drawn_in, grown, off
 from mostlaid.measures import size, turned
-from mostlaid.patches import Patch, dot, rectangle, segment
+from mostlaid.patches import dot, rectangle, segment
 from mostlaid.rings import hull, of_rings
 from mostlaid.sets import common, cut_out, full, insides_meet, joined, less, within
 
+from tests.cases import PatchCase
 from tests.makers import random_shapes
 from tests.reference import (NEAR, corners_around, directions_of, form_faults, fraction, has, has_inside, in_convex,
                              near, number, own_samples, piece_patch)
@@ -37,13 +38,7 @@ def places_around(p, sides, h, v):
     return found + ends
 
 
-class ExamplesTest(unittest.TestCase):
-    def shows(self, p, levels, rows, bands):
-        self.assertIsInstance(p, Patch)
-        self.assertEqual(p.levels, tuple(n(y) for y in levels))
-        self.assertEqual(p.rows, tuple(tuple((n(a), n(b)) for a, b in row) for row in rows))
-        self.assertEqual(p.bands, tuple(tuple(tuple(n(x) for x in strip) for strip in band) for band in bands))
-
+class ExamplesTest(PatchCase):
     def test_drawn_in_of_a_bar(self):
         half = Fraction(1, 2)
         self.shows(drawn_in(rectangle(0, 0, 4, 1), HALF, HALF), [half], [[(half, Fraction(7, 2))]], [])
@@ -111,7 +106,7 @@ class GrownTest(unittest.TestCase):
                               rectangle((299, 100), (9, 4), (301, 100), (15, 4))))
 
     def test_random_patches(self):
-        for seed in range(16):
+        for seed in range(30):
             rng = random.Random(seed)
             shapes = random_shapes(rng, 4)
             h, v = rng.choice([(1, 2), 0, 1, (7, 3)]), rng.choice([(1, 2), 0, 1, 3])
@@ -173,7 +168,7 @@ class DrawnInTest(unittest.TestCase):
         self.assertEqual(common(got, rectangle(1, 2, 3, 2)), joined(dot(1, 2)))
 
     def test_random_patches(self):
-        for seed in range(16):
+        for seed in range(30):
             rng = random.Random(300 + seed)
             shapes = random_shapes(rng, 5)
             h, v = rng.choice([(1, 2), 1, (2, 3)]), rng.choice([(1, 2), 1, (1, 3)])
@@ -237,7 +232,7 @@ class OffTest(unittest.TestCase):
                     self.assertIs(has(free, z), not any(has_inside(bar, z) for bar in bars))
 
     def test_random_patches(self):
-        for seed in range(16):
+        for seed in range(30):
             rng = random.Random(900 + seed)
             shapes, stuff = random_shapes(rng, 3), random_shapes(rng, 4)
             h, v = rng.choice([(1, 2), 1, (2, 3)]), rng.choice([(1, 2), 1, 2])

@@ -6,6 +6,7 @@ from mostlaid.patches import Patch, dot, rectangle, segment
 from mostlaid.rings import hull, of_rings
 from mostlaid.sets import joined
 
+from tests.cases import PatchCase
 from tests.makers import random_shapes
 from tests.reference import (directions_of, form_faults, fraction, has, has_inside, inside, number, own_samples,
                              samples)
@@ -15,14 +16,7 @@ def n(a):
     return number(a)
 
 
-class FormTest(unittest.TestCase):
-    def shows(self, p, levels, rows, bands):
-        self.assertIsInstance(p, Patch)
-        self.assertEqual(p.levels, tuple(n(y) for y in levels))
-        self.assertEqual(p.rows, tuple(tuple((n(a), n(b)) for a, b in row) for row in rows))
-        self.assertEqual(p.bands, tuple(tuple(tuple(n(x) for x in strip) for strip in band) for band in bands))
-        self.assertEqual(form_faults(p), [])
-
+class FormTest(PatchCase):
     def test_dot(self):
         self.shows(dot(3, -2), [-2], [[(3, 3)]], [])
         half = Fraction(1, 2)
@@ -199,6 +193,8 @@ class PatchTest(unittest.TestCase):
             self.assertTrue(square != other)
             self.assertFalse(other == square)
         self.assertFalse(joined() == ())
+        self.assertFalse(segment(0, 0, 0, 2) == joined(dot(0, 0), dot(0, 2)))
+        self.assertFalse(rectangle(0, 0, 1, 2) == joined(segment(0, 0, 1, 0), segment(0, 2, 1, 2)))
         self.assertFalse(joined(square, dot(5, (1, 2))) == joined(square, dot(6, (1, 2))))
         self.assertFalse(segment(0, 0, 1, 1) == segment(0, 0, 1, 2))
         self.assertFalse(hull([(0, 0), (2, 0), (2, 2)]) == hull([(0, 0), (2, 0), (0, 2)]))
@@ -217,7 +213,7 @@ class PatchTest(unittest.TestCase):
         self.assertEqual(repr(joined(dot(0, 0), dot(0, 1), dot(0, 2))), "Patch(3 levels)")
 
     def test_methods_stand_in_the_class(self):
-        for name in ("row_at", "has", "has_inside", "strips", "__contains__", "__eq__", "__bool__", "__repr__"):
+        for name in ("row_at", "has", "has_inside", "strips"):
             self.assertIn(name, vars(Patch))
 
     def test_rows_between_levels(self):

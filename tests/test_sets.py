@@ -2,25 +2,16 @@ import random
 import unittest
 
 from mostlaid.measures import size
-from mostlaid.patches import Patch, dot, rectangle, segment
+from mostlaid.patches import dot, rectangle, segment
 from mostlaid.rings import hull
 from mostlaid.sets import common, cut_out, full, insides_meet, joined, less, within
 
+from tests.cases import PatchCase
 from tests.makers import random_shapes
-from tests.reference import closure, directions_of, form_faults, fraction, has, inside, number, own_samples, samples
+from tests.reference import closure, directions_of, form_faults, fraction, has, inside, own_samples, samples
 
 
-def n(a):
-    return number(a)
-
-
-class SetsTest(unittest.TestCase):
-    def shows(self, p, levels, rows, bands):
-        self.assertIsInstance(p, Patch)
-        self.assertEqual(p.levels, tuple(n(y) for y in levels))
-        self.assertEqual(p.rows, tuple(tuple((n(a), n(b)) for a, b in row) for row in rows))
-        self.assertEqual(p.bands, tuple(tuple(tuple(n(x) for x in strip) for strip in band) for band in bands))
-
+class SetsTest(PatchCase):
     def test_the_example(self):
         p, q = rectangle(0, 0, 2, 2), rectangle(2, 0, 4, 2)
         self.shows(common(p, q), [0, 2], [[(2, 2)], [(2, 2)]], [[(2, 2, 2, 2)]])
