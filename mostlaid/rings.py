@@ -25,15 +25,19 @@ def is_odd(number):
     return number % 2 == 1
 
 
+def checked_rule(rule):
+    """Refuses any value that is no rule."""
+    if rule not in (SOME, OVER, ODD):
+        raise BadRule(rule)
+
+
 def wound_by(sides, rule):
-    """The patch of the winding numbers around directed sides that obey a rule; the rule may be any value."""
+    """The patch of the winding numbers around directed sides that obey a rule."""
     if rule == SOME:
         return wound(sides, is_some)
     if rule == OVER:
         return wound(sides, is_over)
-    if rule == ODD:
-        return wound(sides, is_odd)
-    raise BadRule(rule)
+    return wound(sides, is_odd)
 
 
 def ring_sides(ring):
@@ -44,6 +48,7 @@ def ring_sides(ring):
 
 def of_rings(rings, rule=SOME):
     """The closure of the points on no side whose winding number obeys the rule."""
+    checked_rule(rule)
     return wound_by([side for ring in rings for side in ring_sides(ring)], rule)
 
 

@@ -146,6 +146,7 @@ class LanguageTest(unittest.TestCase):
                     self.assertIn(node.name, SPECIAL, name)
 
     def test_nodes(self):
+        known = METHODS | own_methods()
         for name, tree in trees():
             for node in ast.walk(tree):
                 where = (name, getattr(node, "lineno", 0))
@@ -167,13 +168,23 @@ class LanguageTest(unittest.TestCase):
                     self.assertIsInstance(node.right, ast.Constant, where)
                     self.assertLessEqual(node.right.value, 64, where)
                 if isinstance(node, ast.Call) and isinstance(node.func, ast.Attribute):
-                    self.assertIn(node.func.attr, METHODS | own_methods(), where)
+                    self.assertIn(node.func.attr, known, where)
 
     def check_is(self, node, where):
         for op, right in zip(node.ops, node.comparators):
             if isinstance(op, (ast.Is, ast.IsNot)):
                 self.assertIsInstance(right, ast.Constant, where)
                 self.assertIn(right.value, (None, True, False), where)
+
+    def test_stars_in_calls(self):
+        plain = (ast.Name, ast.Attribute, ast.Constant, ast.List, ast.Tuple)
+        for name, tree in trees():
+            for node in ast.walk(tree):
+                if isinstance(node, ast.Call):
+                    stars = [arg for arg in node.args if isinstance(arg, ast.Starred)]
+                    self.assertLessEqual(len(stars), 1, (name, node.lineno))
+                    for star in stars:
+                        self.assertIsInstance(star.value, plain, (name, node.lineno))
 
     def test_sets_are_not_iterated(self):
         for name, tree in trees():
@@ -191,6 +202,17 @@ class LanguageTest(unittest.TestCase):
                     attributes = {item.attr for item in ast.walk(node) if isinstance(item, ast.Attribute)
                                   and isinstance(item.ctx, ast.Store)}
                     self.assertEqual(methods & attributes, set(), name)
+
+    def test_no_property_has_the_name_of_an_attribute(self):
+        attributes, properties = set(), set()
+        for _, tree in trees():
+            for node in ast.walk(tree):
+                if isinstance(node, ast.Attribute) and isinstance(node.ctx, ast.Store):
+                    attributes.add(node.attr)
+                if isinstance(node, ast.FunctionDef) and "property" in [ast.unparse(one) for one in node.decorator_list]:
+                    properties.add(node.name)
+        self.assertIn("layers", properties)
+        self.assertEqual(attributes & properties, set())
 
 
 def own_methods():
