@@ -18,6 +18,8 @@ def around(y, a, b, h, v):
 def grown(p, h, v):
     """The union of the rectangles at all points of p."""
     wide, high = pair(h), pair(v)
+    if wide[0] == 0 and high[0] == 0:
+        return p
     pieces = [grown_strip(y0, y1, strip, wide, high) for y0, y1, strip in p.strips()]
     pieces.extend([around(y, a, b, wide, high) for y, a, b in bare_stretches(p)])
     return joined(*pieces)

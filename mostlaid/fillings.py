@@ -186,6 +186,11 @@ def wall_number(filling):
     return filling[1] if 0 <= filling[1] <= MOST_WALLS else None
 
 
+def is_filling(value):
+    """Whether any value is a filling."""
+    return value in ("rows", "columns", "rings", "tree", "spare") or wall_number(value) is not None
+
+
 def strokes_of(c, h, v, filling):
     """The strokes of a filling by its word, or by the tuple for walls."""
     walls = wall_number(filling)

@@ -1,4 +1,4 @@
-"""What several tests of patches need."""
+"""What several tests need."""
 
 import unittest
 
@@ -15,3 +15,13 @@ class PatchCase(unittest.TestCase):
         self.assertEqual(p.rows, tuple(tuple((n(a), n(b)) for a, b in row) for row in rows))
         self.assertEqual(p.bands, tuple(tuple(tuple(n(x) for x in strip) for strip in band) for band in bands))
         self.assertEqual(form_faults(p), [])
+
+
+class RefusalCase(unittest.TestCase):
+    def refuses(self, kind, act, *values):
+        """Looks at the error that a call raises: its class, and its parameters in their order."""
+        with self.assertRaises(kind) as held:
+            act()
+        self.assertIs(type(held.exception), kind)
+        self.assertEqual(tuple(vars(held.exception).values()), values)
+        return held.exception

@@ -137,7 +137,7 @@ class LanguageTest(unittest.TestCase):
                     self.assertNotIn(made, all_builtins, name)
                     self.assertNotIn(made, BARRED, name)
                     self.assertNotIn(made, top, name)
-                    self.assertRegex(made, r"^(_|[A-Za-z][A-Za-z0-9_]*)$")
+                    self.assertRegex(made, r"^(_|_?[A-Za-z][A-Za-z0-9_]*)$")
                 if isinstance(node, ast.Name) and isinstance(node.ctx, ast.Load):
                     self.assertNotEqual(node.id, "_", name)
                     if node.id in all_builtins:
