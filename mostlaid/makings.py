@@ -5,7 +5,7 @@ from mostlaid.errors import AllDone, BadChooser, BadFilling, NotReady
 from mostlaid.fillings import is_filling, strokes_of, sweep
 from mostlaid.jobs import Plan
 from mostlaid.machines import distance
-from mostlaid.ratios import below, greatest_of, is_whole, minus, pair, plus
+from mostlaid.ratios import below, greatest_of, is_whole, minus, pair
 from mostlaid.rims import way
 from mostlaid.sets import insides_meet, joined
 from mostlaid.setups import Wanted, checked_standing, new_bed, pairs
@@ -181,6 +181,7 @@ class Making:
         other.plan = self.plan
         other._stands = self._stands
         other._laid = list(self._laid)
+        other._strokes = dict(self._strokes)
         return other
 
     def __repr__(self):

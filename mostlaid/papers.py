@@ -6,7 +6,7 @@ from mostlaid.forms import is_lone
 from mostlaid.greatest import around_place, foot_at, greatest
 from mostlaid.measures import first_point
 from mostlaid.patches import Patch
-from mostlaid.ratios import below, is_number, is_whole, plus
+from mostlaid.ratios import below, is_whole, plus
 from mostlaid.sets import common, cut_out, full, insides_meet, less, within
 from mostlaid.setups import checked_standing, is_tuple_of, pairs
 

@@ -1,7 +1,6 @@
 """The plain machine, which keeps what stood at first and each laid stroke by itself."""
 
 from mostlaid.coderows import read_row
-from mostlaid.errors import Refused
 from mostlaid.machines import Terms, begun_grounds, begun_state, run_code, state_behind
 from mostlaid.measures import box
 from mostlaid.props import borne_by
@@ -110,15 +109,16 @@ class Printer:
     def do_all(self, *rows):
         """Does all of some rows, or none."""
         ahead = self._state
+        finished = None
         self._busy = True
         try:
             for row in rows:
                 self.do(row)
-        except Refused:
-            self._state = ahead
-            raise
+            finished = True
         finally:
             self._busy = False
+            if finished is None:
+                self._state = ahead
 
     def run(self, code, *, cut=None, skip=False):
         """Does rows in order; the list of the refused ones, as tuples of the index and the name of the error."""

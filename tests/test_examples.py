@@ -1,13 +1,17 @@
-"""The examples of the document that have landed."""
+"""The examples of the document."""
 
 import unittest
 
+from mostlaid.errors import Hangs
 from mostlaid.feet import drawn_in
 from mostlaid.greatest import greatest
 from mostlaid.makers import loft
+from mostlaid.makings import house_code
 from mostlaid.measures import size
 from mostlaid.nets import volume
+from mostlaid.papers import Paper, certificate, flaw
 from mostlaid.patches import rectangle
+from mostlaid.printers import Printer
 from mostlaid.props import props
 from mostlaid.rings import of_rings
 from mostlaid.setups import Setup, Wanted
@@ -27,9 +31,24 @@ class ExamplesTest(unittest.TestCase):
         self.assertEqual([size(slice_above(net, 2)), size(slice_above(net, 3))], [(4, 1), (1, 1)])
         self.assertEqual([size(slab(net, 0, 1, mode=SURE)), size(slab(net, 0, 1, mode=ALL))], [(9, 1), (16, 1)])
 
-    def test_the_size_of_the_body_in_a_triangle(self):
+    def test_a_certificate_in_a_triangle(self):
         wanted = Wanted(Setup([0, 1], (0, 0, 10, 10)), [of_rings([[(0, 0), (6, 0), (0, 6)]])])
-        self.assertEqual(size(greatest(wanted).body[0]), (17, 1))
+        point = ((11, 2), (1, 4))
+        paper = certificate(wanted, 1, point)
+        self.assertEqual(
+            [size(greatest(wanted).body[0]), len(paper), paper.pieces[0], flaw(wanted, paper),
+             flaw(wanted, Paper(1, point, paper.pieces[1:]))],
+            [(17, 1), 2, ("slice", 0, (-3, 4), (0, 1), ((9, 2), (13, 2), (9, 2), (13, 2))), None, ("free", (5, 1), (-1, 4))])
+        self.assertEqual(paper.pieces[1], ("slice", 0, (0, 1), (5, 4), ((6, 1), (13, 2), (19, 4), (13, 2))))
+
+    def test_code_for_a_bar(self):
+        self.assertEqual(house_code(Wanted(Setup([0, 1], (0, 0, 10, 10)), [rectangle(0, 0, 4, 1)])),
+                         [("go", (1, 2), (1, 2)), ("lay", (7, 2), (1, 2))])
+
+    def test_a_lay_beside_the_bed(self):
+        with self.assertRaises(Hangs) as held:
+            Printer(Setup([0, 1], (0, 0, 10, 10))).do(("lay", 1, 1))
+        self.assertEqual(held.exception.point, ((-1, 2), (-1, 2)))
 
     def test_props_below_a_beam(self):
         raster = [((1, 2), (1, 2)), ((3, 2), (1, 2)), ((5, 2), (1, 2)), ((7, 2), (1, 2))]

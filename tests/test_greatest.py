@@ -1,9 +1,11 @@
 import random
 import unittest
+from fractions import Fraction
 
 from mostlaid.errors import BadLayers
 from mostlaid.feet import drawn_in, grown
-from mostlaid.greatest import Greatest, greatest, is_barred, kept, left_out, lost
+from mostlaid.fillings import laid
+from mostlaid.greatest import Greatest, greatest, greatest_behind, is_barred, kept, left_out, lost, lost_layer
 from mostlaid.measures import size
 from mostlaid.patches import dot, rectangle, segment
 from mostlaid.ratios import minus, plus
@@ -365,6 +367,41 @@ class SlantedTest(unittest.TestCase):
             again = [joined(p, q) for p, q in zip(standing, [body[0], EMPTY, EMPTY])]
             for p, q in zip(body, greatest(wanted, again).body):
                 self.assertTrue(within(p, q))
+
+
+class BehindTest(unittest.TestCase):
+    """What the machines work out when a sweep is laid is what is worked out anew."""
+
+    def random_sweep(self, rng, wanted, best):
+        """A layer and a sweep, most often between places of the body or points of the raster."""
+        setup = wanted.setup
+        layer = rng.randint(1, setup.layers)
+        p = best.places[layer - 1]
+        spots = [(x, y) for y, row in zip(p.levels, p.rows) for stretch in row for x in stretch] + list(setup.raster)
+        if not spots or rng.random() < 0.3:
+            spots = [numbers(Fraction(rng.randint(0, 24), 4), Fraction(rng.randint(0, 24), 4)) for _ in range(2)]
+        one, other = rng.choice(spots), rng.choice(spots)
+        return layer, laid([one + rng.choice((one, other))], *setup.foot)
+
+    def test_against_what_is_worked_out_anew(self):
+        lessened = 0
+        for seed in range(60):
+            rng = random.Random(500 + seed)
+            wanted, standing = random_grid_case(rng, rng.randint(1, 3), rng.choice((0, 8, 15)))
+            best = greatest(wanted, standing)
+            for _ in range(6):
+                layer, swept = self.random_sweep(rng, wanted, best)
+                standing = list(standing)
+                standing[layer - 1] = joined(standing[layer - 1], swept)
+                ahead, wished = best, greatest(wanted, standing)
+                best = greatest_behind(wanted, ahead, tuple(standing), layer, swept)
+                for name in ("grounds", "places", "body", "prop_places", "roof"):
+                    self.assertEqual(getattr(best, name), getattr(wished, name))
+                parts = [[full(common(p, q)) for p, q in zip(one.body, wanted.slices)] for one in (ahead, best)]
+                fewer = [at + 1 for at, (p, q) in enumerate(zip(*parts)) if less(p, q)]
+                self.assertEqual(lost_layer(wanted, ahead, best), fewer[0] if fewer else None)
+                lessened += len(fewer) > 0
+        self.assertGreater(lessened, 10)
 
 
 if __name__ == "__main__":

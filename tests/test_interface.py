@@ -5,6 +5,7 @@ import inspect
 import unittest
 
 HALVES = ((1, 2), (1, 2))
+WORK = "chooser='layers', filling='rows', place=(0, 0), tip=None, walk=False"
 
 FUNCTIONS = {
     "ratios": ["exact(value)", "is_number(value)", "plus(a, b)", "minus(a, b)", "times(a, b)", "over(a, b)",
@@ -30,7 +31,17 @@ FUNCTIONS = {
                  "strokes_of(c, h, v, filling)"],
     "props": ["props(wanted, standing=None)", "islands(wanted, standing=None)", "load(wanted, layer, standing=None)",
               "hanging_without(wanted, layer, place, standing=None)"],
+    "papers": ["flaw(wanted, paper, standing=None)", "certificate(wanted, layer, point, standing=None)"],
+    "jobs": ["job_hits(setup, one, other)"],
+    "coderows": ["is_row(setup, value)", "write_code(code)", "read_code(text)", "shortened(row, place, share)"],
+    "makings": ["hop_rows(setup, standing, place, tip, goal, height)",
+                f"house_code(wanted, *, standing=None, {WORK})"],
+    "falls": ["first_loss(wanted, code, *, standing=None)"],
+    "reports": ["report(wanted, standing=None)"],
 }
+
+MACHINE = ["__init__(self, setup, *, standing=None, wanted=None, careful=False)", "do(self, row)", "do_all(self, *rows)",
+           "run(self, code, *, cut=None, skip=False)", "__call__(self, line)", "twin(self)", "__repr__(self)"]
 
 CLASSES = {
     "patches": {"Patch": ["row_at(self, y)", "has(self, x, y)", "has_inside(self, x, y)", "strips(self)",
@@ -40,7 +51,22 @@ CLASSES = {
                          "layer_at(self, z)", "__eq__(self, other)"],
                "Wanted": ["__init__(self, setup, slices)"]},
     "greatest": {"Greatest": []},
+    "papers": {"Paper": ["__init__(self, layer, point, pieces)", "__eq__(self, other)", "__len__(self)"]},
+    "jobs": {"Job": [], "Plan": ["__init__(self, wanted, standing=None)", "hits(self, one, other)", "stands(self, done)",
+                                 "why_not(self, number, done)", "ready(self, done)", "can_come(self, done)",
+                                 "is_order(self, numbers)", "count_orders(self)", "order_at(self, index)",
+                                 "rank_of(self, order)", "least_lot(self, number)"]},
+    "printers": {"Printer": MACHINE},
+    "quick": {"QuickPrinter": MACHINE},
+    "makings": {"Making": [f"__init__(self, wanted, *, standing=None, {WORK})", "ready(self)", "choice(self)",
+                           "lay(self, number=None)", "steps(self)", "code(self)", "twin(self)", "__repr__(self)"]},
+    "benches": {"Bench": ["__init__(self, *wanteds)", "ahead(self, x, y)", "order(self)", "code(self, order)",
+                          "__len__(self)"]},
 }
+
+PROPERTIES = {("setups", "Setup"): ["layers"], ("makings", "Making"): ["place", "tip", "standing", "done"],
+              ("printers", "Printer"): ["place", "tip", "clock", "used", "standing", "busy"],
+              ("quick", "QuickPrinter"): ["place", "tip", "clock", "used", "standing", "busy"]}
 
 CONSTANTS = {"rings": {"SOME": "some", "OVER": "over", "ODD": "odd"},
              "slabs": {"LOW": "low", "HIGH": "high", "MIDDLE": "middle", "SURE": "sure", "ALL": "all"}}
@@ -75,11 +101,17 @@ class InterfaceTest(unittest.TestCase):
             for word, value in constants.items():
                 self.assertEqual(getattr(module(name), word), value)
 
-    def test_even_and_layers(self):
+    def test_even(self):
         kind = module("setups").Setup
         self.assertIsInstance(vars(kind)["even"], classmethod)
         self.assertEqual(shown(kind.even), "even(layers, bed, thickness=1)")
-        self.assertIsInstance(vars(kind)["layers"], property)
+
+    def test_properties(self):
+        for (name, word), listed in PROPERTIES.items():
+            kind = getattr(module(name), word)
+            for text in listed:
+                self.assertIsInstance(vars(kind)[text], property)
+                self.assertIsNone(vars(kind)[text].fset)
 
 
 if __name__ == "__main__":

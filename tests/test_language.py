@@ -203,6 +203,52 @@ class LanguageTest(unittest.TestCase):
                                   and isinstance(item.ctx, ast.Store)}
                     self.assertEqual(methods & attributes, set(), name)
 
+    def test_no_method_has_the_name_of_an_attribute_of_any_class(self):
+        attributes = set()
+        for _, tree in trees():
+            attributes |= {node.attr for node in ast.walk(tree) if isinstance(node, ast.Attribute)
+                           and isinstance(node.ctx, ast.Store)}
+        self.assertEqual(attributes & own_methods(), set())
+
+    def test_names_with_an_underscore_that_are_barred(self):
+        barred = re.compile(r"_(pe|dcw|enum|cm|twin_re|lay|law|stub)_|_(sre|wall|WallAttr|cold|tuplegetter|outside|record|"
+                            r"written_out|member_names)")
+        for name, tree in trees():
+            for node in ast.walk(tree):
+                for word in ("id", "attr", "name", "arg"):
+                    made = getattr(node, word, None)
+                    self.assertFalse(isinstance(made, str) and barred.match(made), (name, made))
+
+    def test_ranges_are_not_passed_on(self):
+        takers = BUILTINS | {"product", "combinations", "permutations", "chain"}
+        for name, tree in trees():
+            for node in ast.walk(tree):
+                if isinstance(node, ast.Call):
+                    for arg in node.args:
+                        is_view = isinstance(arg, ast.Call) and isinstance(arg.func, ast.Name) and arg.func.id in (
+                            "range", "zip", "enumerate", "reversed")
+                        if is_view:
+                            self.assertIsInstance(node.func, ast.Name, (name, node.lineno))
+                            self.assertIn(node.func.id, takers, (name, node.lineno))
+
+    def test_finally_is_simple(self):
+        for name, tree in trees():
+            for node in ast.walk(tree):
+                if isinstance(node, ast.Try):
+                    for line in node.finalbody:
+                        self.check_finally(line, (name, line.lineno))
+
+    def check_finally(self, line, where):
+        if isinstance(line, ast.If):
+            self.assertIsInstance(line.test, ast.Compare, where)
+            self.assertIsInstance(line.test.left, ast.Name, where)
+            self.assertIsInstance(line.test.ops[0], (ast.Is, ast.IsNot), where)
+            for inner in line.body + line.orelse:
+                self.check_finally(inner, where)
+        else:
+            self.assertIsInstance(line, ast.Assign, where)
+            self.assertIsInstance(line.value, (ast.Name, ast.Constant), where)
+
     def test_no_property_has_the_name_of_an_attribute(self):
         attributes, properties = set(), set()
         for _, tree in trees():

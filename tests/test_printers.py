@@ -10,7 +10,7 @@ from mostlaid.rings import of_rings
 from mostlaid.sets import joined, within
 from mostlaid.setups import Setup, Wanted
 
-from tests.bodies import BEAM_RASTER, BED, EMPTY, HALF, LEFT, POSTS, RIGHT, SQUARE, WRONG_STANDINGS, two_layers
+from tests.bodies import BED, EMPTY, HALF, LEFT, POSTS, RIGHT, SQUARE, WRONG_STANDINGS, two_layers
 from tests.cases import RefusalCase
 from tests.reference import numbers
 from tests.slow import SlowPrinter, answers, random_case, random_row, rng_of, spots_of, told
@@ -550,6 +550,20 @@ class BusyTest(unittest.TestCase):
                 with self.assertRaises(KeyError):
                     act()
                 self.assertIs(printer.busy, False)
+
+    def test_all_or_nothing_behind_any_error(self):
+        for kind in KINDS:
+            class Fail(kind):
+                def do(self, row):
+                    kind.do(self, row)
+                    if row[1] == 2:
+                        raise KeyError(row)
+
+            printer = Fail(SETUP)
+            with self.assertRaises(KeyError):
+                printer.do_all(("go", 1, 1), ("go", 2, 2))
+            self.assertEqual(answers(printer), NEW)
+            self.assertIs(printer.busy, False)
 
 
 class LineTest(MachineCase):
