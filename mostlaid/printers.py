@@ -129,6 +129,7 @@ class Printer:
             self._busy = False
 
     def __call__(self, line):
+        """Does the row of the text of one line."""
         self.do(read_row(line))
 
     def twin(self):

@@ -98,6 +98,7 @@ class QuickPrinter:
             self._busy = False
 
     def __call__(self, line):
+        """Does the row of the text of one line."""
         self.do(read_row(line))
 
     def twin(self):

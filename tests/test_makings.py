@@ -410,6 +410,14 @@ class WalkTest(unittest.TestCase):
         self.assertEqual(rows, wished)
         self.assertIn(("go", (7, 2), HALF), rows[4:])
 
+    def test_a_walk_to_the_second_stroke(self):
+        arch = joined(rectangle(0, 0, 1, 4), rectangle(3, 0, 4, 4), rectangle(0, 3, 4, 4))
+        far = (7, 2)
+        first = [("go", HALF, HALF), ("lay", HALF, far)]
+        last = [("lay", far, far), ("go", HALF, far), ("lay", far, far)]
+        self.assertEqual(house_code(one_layer(arch), walk=True), first + [("go", far, far), ("go", far, HALF)] + last)
+        self.assertEqual(house_code(one_layer(arch)), first + [("go", far, HALF)] + last)
+
     def test_walks_touch_nothing(self):
         wall = rectangle(0, 2, 4, 3)
         wanted = two_layers(joined(rectangle(-2, 0, 6, 1), rectangle(-2, 0, -1, 5), rectangle(5, 0, 6, 5)), EMPTY)

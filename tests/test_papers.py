@@ -269,6 +269,15 @@ class FlawTest(unittest.TestCase):
         near = two_layers(TRIANGLE, TRIANGLE, gap=(3, 4), carriage=(1, 1))
         self.assertIsNone(flaw(near, Paper(1, (2, 2), [straight("carriage", 2, 1, 1, 3, 3)]), standing))
 
+    def test_leaning_pieces(self):
+        wanted = two_layers(WIDE, EMPTY, gap=1)
+        standing = [EMPTY, of_rings([[(0, 0), (8, 0), (0, 8)]])]
+        true = ("foot", 2, (0, 1), (4, 1), numbers(0, 8, 0, 4))
+        self.assertIsNone(flaw(wanted, Paper(1, (2, 2), [true]), standing))
+        for bad in (numbers(0, 8, 0, 5), numbers(0, 9, 0, 4), numbers(-1, 8, 0, 4), numbers(0, 8, -1, 4)):
+            self.check_piece(wanted, true, ("foot", 2, (0, 1), (4, 1), bad), standing, 1, (2, 2))
+        self.check_piece(wanted, true, ("foot", 2, (0, 1), (5, 1), numbers(0, 8, 0, 4)), standing, 1, (2, 2))
+
     def test_pieces_that_only_just_touch_are_true(self):
         wanted = one_layer(TRIANGLE)
         self.assertIsNone(flaw(wanted, Paper(1, POINT, [FIRST, SECOND, straight("slice", 0, -3, 0, 0, 5)])))
