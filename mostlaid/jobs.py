@@ -94,7 +94,7 @@ class Plan:
         """Whether job number other is hit by job number one."""
         self._check(one)
         self._check(other)
-        return self._hit_masks[one] & bit(other) != 0
+        return (self._hit_masks[one] & bit(other)) != 0
 
     def stands(self, done):
         """The standing that done jobs make."""
